@@ -1,0 +1,63 @@
+"""Values that tests hand in: halls of all sizes, and wrong values of all kinds."""
+
+import itertools
+import random
+
+
+def pairs_of(n):
+    return list(itertools.combinations(range(n), 2))
+
+
+def all_halls(n):
+    pairs = pairs_of(n)
+    for told in itertools.product((False, True), repeat=len(pairs)):
+        yield n, tuple(pair for pair, there in zip(pairs, told) if there)
+
+
+def some_halls(n, many):
+    """Nobody, everybody and some in between as friends; the same ones at each call."""
+    chance = random.Random(1000 * n + many)
+    yield n, ()
+    yield n, tuple(pairs_of(n))
+    for k in range(many):
+        density = (k % 5 + 1) / 6
+        yield n, tuple(pair for pair in pairs_of(n) if chance.random() < density)
+
+
+def halls():
+    """All halls of up to 4 people, some of 5 to 8."""
+    for n in range(1, 5):
+        yield from all_halls(n)
+    for n in range(5, 9):
+        yield from some_halls(n, 20)
+
+
+def nested(kind, deep):
+    value = kind()
+    for _ in range(deep):
+        value = {0: value} if kind is dict else kind([value])
+    return value
+
+
+HUGE = 10 ** 5000
+
+# Right for no parameter but such as take any value.
+WRONG = [
+    None, True, False, "", "0", "hall", "(1, ())", -1, -HUGE, HUGE, 2 ** 64, 200, [], [0], [0, 1], {}, {0: 1}, {"n": 3},
+    (None,), (True,), (False, True), ("0",), ((0,),), ((),), ([],), ({},), (-1,), (HUGE,), (-HUGE,), (99,),
+    nested(tuple, 30), nested(list, 30), nested(dict, 30), (0, nested(tuple, 29)), (0, None), (0, True), (0, [1]),
+]
+
+WRONG_HALLS = WRONG + [
+    0, 3, (), (3,), (3, (), ()), [3, ()], (3, []), (3, [(0, 1)]), (3, ([0, 1],)), (3, {}), (3, {0: 1}), (3, {(0, 1): 1}),
+    (3, None), (3, "01"), (3, ("01",)), (3, (None,)), (3, 0), (3, (0, 1)), (3, True), ((), 3), ((), ()),
+    (0, ()), (9, ()), (-1, ()), (HUGE, ()), (-HUGE, ()), (True, ()), (False, ()), (None, ()), ("3", ()), ((3,), ()),
+    (3, ((),)), (3, ((0,),)), (3, ((0, 1, 2),)), (3, ((0, 1), (1, 2, 0))), (3, ((1, 0),)), (3, ((0, 0),)), (3, ((2, 1),)),
+    (3, ((0, 3),)), (3, ((3, 4),)), (3, ((-1, 0),)), (3, ((0, HUGE),)), (3, ((0, True),)), (2, ((False, True),)),
+    (2, ((False, 1),)), (3, ((0, "1"),)), (3, ((0, None),)), (3, ((0, (1,)),)), (3, ((0, [1]),)), (3, ((0, {}),)),
+    (3, ((1, 2), (0, 1))), (3, ((0, 2), (0, 1))), (3, ((0, 1), (0, 1))), (3, ((0, 1), (0, 2), (0, 1))), (1, ((0, 1),)),
+    (1, ((0, 0),)), (8, ((0, 8),)), (3, ((0, 1), None)), (3, (None, (0, 1))), (3, ((0, 1), nested(tuple, 28))),
+    (3, (nested(tuple, 28),)), (2, ((0, 1),), None), (True, ((0, 1),)), (9, ((0, 1),)),
+]
+
+WRONG_PERSONS = [value for value in WRONG] + [(), (0,), (0, 1), 8, 9, 10 ** 18, [1], "1"]

@@ -1,0 +1,66 @@
+"""The interface's names stand in their files, and the package keeps to the plainest rules of its language."""
+
+import ast
+import inspect
+import pathlib
+import unittest
+
+import turnfriends
+from turnfriends import halls, printing
+
+PACKAGE = pathlib.Path(turnfriends.__file__).parent
+FUNCTIONS = {
+    halls: {
+        "is_hall": ["value"], "friends": ["hall", "x"], "turned": ["hall", "x"], "turned_all": ["hall", "row"],
+        "swapped": ["hall", "x", "y"], "renamed": ["hall", "order"], "rank_of": ["hall", "lot"], "ranks": ["hall"],
+        "parts": ["hall"],
+    },
+    printing: {"check": ["text"], "printed": ["text"], "start_of": ["text"]},
+}
+LIBRARY = {"heapq", "math", "itertools", "collections", "__future__"}
+
+
+def files():
+    return sorted(path for path in PACKAGE.rglob("*.py"))
+
+
+class Interface(unittest.TestCase):
+    def test_defined_where_listed(self):
+        for module, told in FUNCTIONS.items():
+            for name, parameters in told.items():
+                function = getattr(module, name)
+                self.assertEqual(function.__module__, module.__name__)
+                self.assertEqual(list(inspect.signature(function).parameters), parameters)
+
+
+class Language(unittest.TestCase):
+    def test_package_holds_code_alone(self):
+        for path in PACKAGE.rglob("*"):
+            if "__pycache__" not in path.parts:
+                self.assertEqual(path.suffix, ".py")
+
+    def test_sizes_and_signs(self):
+        for path in files():
+            text = path.read_text(encoding="utf-8")
+            self.assertLessEqual(len(text.split("\n")) - 1, 399, path)
+            for line in text.split("\n"):
+                self.assertLessEqual(len(line), 120, path)
+                self.assertTrue(all(" " <= sign <= "~" for sign in line), path)
+            for node in ast.walk(ast.parse(text)):
+                if isinstance(node, ast.FunctionDef):
+                    self.assertLessEqual(node.end_lineno - node.lineno + 1, 40, node.name)
+
+    def test_imports(self):
+        for path in files():
+            for node in ast.walk(ast.parse(path.read_text(encoding="utf-8"))):
+                self.assertNotIsInstance(node, ast.Import, path)
+                if isinstance(node, ast.ImportFrom):
+                    self.assertIn(node.module.split(".")[0], {"turnfriends", *LIBRARY})
+                    self.assertEqual(node.level, 0)
+
+    def test_no_floats_and_no_division(self):
+        for path in files():
+            for node in ast.walk(ast.parse(path.read_text(encoding="utf-8"))):
+                self.assertNotIsInstance(node, ast.Div, path)
+                if isinstance(node, ast.Constant):
+                    self.assertNotIsInstance(node.value, (float, complex), path)

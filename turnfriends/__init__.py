@@ -1,0 +1,1 @@
+"""Turnfriends: halls of people, led to one another by turns."""

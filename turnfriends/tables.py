@@ -1,0 +1,69 @@
+"""Halls as tables of bits, and ranks over 0 and 1.
+
+A set of people is told as a mask, the sum of the 2 ** x of its persons x; a hall as
+the list of its friend masks, one for each person. Nothing here is checked.
+"""
+
+
+def masks_of(hall):
+    """The friend masks of a hall."""
+    n, pairs = hall
+    masks = [0] * n
+    for x, y in pairs:
+        masks[x] |= 1 << y
+        masks[y] |= 1 << x
+    return masks
+
+
+def hall_of_masks(masks):
+    """The hall of some friend masks."""
+    n = len(masks)
+    pairs = [(x, y) for x in range(n) for y in range(x + 1, n) if masks[x] >> y & 1]
+    return n, tuple(pairs)
+
+
+def people_in(mask):
+    """The ascending tuple of the persons of a mask."""
+    return tuple([x for x in range(mask.bit_length()) if mask >> x & 1])
+
+
+def mask_of(people):
+    """The mask of some unlike persons."""
+    return sum([1 << x for x in people])
+
+
+def turned_masks(masks, x):
+    """The friend masks behind a turn at x."""
+    # A friend of x changes with all other friends of x, but never with itself.
+    return [mask ^ masks[x] ^ (1 << y) if masks[x] >> y & 1 else mask for y, mask in enumerate(masks)]
+
+
+def part_of(masks, x):
+    """The mask of those who hang together with x."""
+    reached = 1 << x
+    # Whoever hangs together with x does so by fewer than n steps.
+    for _ in masks:
+        wider = reached
+        for y in people_in(reached):
+            wider |= masks[y]
+        reached = wider
+    return reached
+
+
+def rank_of_table(table):
+    """The rank, over 0 and 1, of a table whose rows are told as integers."""
+    basis = []
+    for row in table:
+        rest = row
+        for held in basis:
+            # The lesser one of the two is the one without the leading bit of what is held.
+            rest = min(rest, rest ^ held)
+        if rest != 0:
+            basis.append(rest)
+    return len(basis)
+
+
+def rank_across(masks, lot):
+    """The rank of the table that tells who in a lot, given as a mask, has which friends outside."""
+    outside = ((1 << len(masks)) - 1) ^ lot
+    return rank_of_table([masks[x] & outside for x in people_in(lot)])
