@@ -61,3 +61,32 @@ WRONG_HALLS = WRONG + [
 ]
 
 WRONG_PERSONS = [value for value in WRONG] + [(), (0,), (0, 1), 8, 9, 10 ** 18, [1], "1"]
+
+WRONG_ROWS = [*WRONG, 0, 3, "012", [0, 1], {0: 0}, (3,), (0, 3), (0, 1, -1), (0, "1"), (0, (1,)), (0, 1, True), (0,) * 201]
+
+WRONG_LOTS = [
+    *WRONG, 0, "01", [0, 1], {0: 0}, (1, 0), (0, 0), (0, 2, 1), (0, 1, 1), (0, 3), (3,), (0, 1, 2, 3), (0, 1, 2, 2),
+    (False,), (0, True, 2), ((0, 1),),
+]
+
+WRONG_ORDERS = [
+    *WRONG, 0, "012", (), [0, 1, 2], {0: 0, 1: 1, 2: 2}, (0,), (0, 1), (0, 1, 1), (0, 1, 2, 2), (0, 1, 2, 3), (1, 2, 3),
+    (0, 0, 0), (0, 1, "2"), (0, True, 2), (False, 1, 2), (0, 1, None), (0, 1, (2,)), (0, 1, HUGE),
+]
+
+# Wrong whatever the number of people is.
+WRONG_ANY_LOOKS = [
+    *WRONG, 0, 3, "........X", "XYZXYZXYZ", "xyz", "XYW", "X Z", "XY\n", "X-Z", "XYZ ", " XYZ", "X,Y", "0XY", "XY0", "XYx",
+    "XY\u0396", "X" * 2001, ["X", "Y", "Z"], ("X", "Y", "Z"), ("XYZ",), ["XYZ"], {"XYZ": 1}, ("X",), ("...",),
+]
+
+WRONG_LOOKS = [*WRONG_ANY_LOOKS, "X", ".", "XY", "..", "....", "XYZX", "XYZ.", "XXXXXXXX"]
+
+WRONG_CHOICES = [*WRONG_LOOKS, "...", "XY.", ".XY", "X.Z", "XYZ.", ".XYZ"]
+
+WRONG_CHANGES = [
+    *WRONG, 0, "XYZ", "XYZXYZXYZ", (), ("XYZ",), ("XYZ", "XYZ"), ("XYZ",) * 4, ["XYZ"] * 3, {"XYZ": "XYZ"},
+    ("XYZ", "XYZ", "XXZ"), ("XYZ", "XYZ", "XY"), ("XYZ", "XYZ", "XY."), ("XYZ", "XYZ", "XYZX"), ("XYZ", "XYZ", "xyz"),
+    ("XYZ", "XYZ", ""), ("XYZ", "XYZ", None), ("XYZ", "XYZ", ("X", "Y", "Z")), (["X", "Y", "Z"], "XYZ", "XYZ"),
+    ("XYZ", 0, "XYZ"), ("XYZ", True, "XYZ"), ("...", "XYZ", "XYZ"), ("ZZZ", "XYZ", "XYZ"), ("XYZ", "XYZ", {}),
+]

@@ -1,5 +1,6 @@
 """Other roads to what halls tell: by sets of friends, in place of bits."""
 
+import functools
 import itertools
 
 
@@ -46,3 +47,89 @@ def parts(hall):
         for z in both:
             lot_of[z] = both
     return tuple(sorted({tuple(sorted(lot)) for lot in lot_of.values()}))
+
+
+def changes(n):
+    """All changes of names of n people, ascending."""
+    return list(itertools.product(["XYZ", "XZY", "YXZ", "YZX", "ZXY", "ZYX"], repeat=n))
+
+
+def rows_of_looks(n):
+    """All rows of looks of n people, ascending."""
+    return ["".join(row) for row in itertools.product(".XYZ", repeat=n)]
+
+
+def choices_of(n):
+    return ["".join(row) for row in itertools.product("XYZ", repeat=n)]
+
+
+def sum_of_two(one, other):
+    """The sum of two looks, or of a look and nothing."""
+    if "." in (one, other):
+        return min(one + other, other + one)[1]
+    if one == other:
+        return "."
+    return next(look for look in "XYZ" if look not in one + other)
+
+
+def added(one, other):
+    return "".join(sum_of_two(*both) for both in zip(one, other))
+
+
+def meet_oddly(one, other):
+    met = [both for both in zip(one, other) if "." not in both and both[0] != both[1]]
+    return len(met) % 2 == 1
+
+
+def own_row(hall, x):
+    return "".join("X" if y == x else "Z" if are_friends(hall, x, y) else "." for y in range(hall[0]))
+
+
+@functools.lru_cache(maxsize=None)
+def room(hall):
+    """All sums of own rows, each brought in behind the others."""
+    rows = {"." * hall[0]}
+    for x in range(hall[0]):
+        rows |= {added(row, own_row(hall, x)) for row in rows}
+    return tuple(sorted(rows))
+
+
+def fits(look, chosen):
+    return look in (".", chosen)
+
+
+def left_over(hall, choice):
+    return tuple(row for row in room(hall) if all(map(fits, row, choice)))
+
+
+def base_rows(hall, choice, x):
+    """The rows that may be called the base row of x; in a choice that leaves nothing over it is one."""
+    found = []
+    for row in room(hall):
+        others = [y for y in range(hall[0]) if y != x]
+        if row[x] not in (".", choice[x]) and all(fits(row[y], choice[y]) for y in others):
+            found.append(row)
+    return found
+
+
+def hall_of(hall, choice):
+    bases = [base_rows(hall, choice, x)[0] for x in range(hall[0])]
+    pairs = [(x, y) for x, y in itertools.combinations(range(hall[0]), 2) if bases[x][y] == choice[y]]
+    return hall[0], tuple(pairs)
+
+
+def changed(row, change):
+    return "".join(look if look == "." else told["XYZ".index(look)] for look, told in zip(row, change))
+
+
+def is_answer(hall, other, change):
+    return tuple(sorted(changed(row, change) for row in room(hall))) == room(other)
+
+
+def signs(change):
+    """The signs of a change, person by person a, b, c, d."""
+    told = []
+    for goes in change:
+        to_x, to_z = goes[0], goes[2]
+        told += [int(to_x in "XY"), int(to_x in "ZY"), int(to_z in "XY"), int(to_z in "ZY")]
+    return told

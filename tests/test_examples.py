@@ -5,6 +5,7 @@ import pathlib
 import unittest
 
 EXAMPLES = pathlib.Path(__file__).parent / "examples"
+README = pathlib.Path(__file__).parent.parent / "README.md"
 
 
 class Examples(unittest.TestCase):
@@ -17,3 +18,21 @@ class Examples(unittest.TestCase):
 
     def test_printing(self):
         self.hold("printing.txt", 3)
+
+    def test_running(self):
+        self.hold("running.txt", 2)
+
+    def test_looks(self):
+        self.hold("looks.txt", 4)
+
+    def test_choosing(self):
+        self.hold("choosing.txt", 4)
+
+    def test_naming(self):
+        self.hold("naming.txt", 3)
+
+    def test_readme(self):
+        text = README.read_text(encoding="utf-8").replace("```", "")
+        test = doctest.DocTestParser().get_doctest(text, {}, "README.md", "README.md", 0)
+        self.assertGreater(len(test.examples), 10)
+        self.assertEqual(doctest.DocTestRunner().run(test).failed, 0)

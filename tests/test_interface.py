@@ -6,7 +6,7 @@ import pathlib
 import unittest
 
 import turnfriends
-from turnfriends import halls, printing
+from turnfriends import choosing, halls, looks, naming, printing, running
 
 PACKAGE = pathlib.Path(turnfriends.__file__).parent
 FUNCTIONS = {
@@ -16,6 +16,20 @@ FUNCTIONS = {
         "parts": ["hall"],
     },
     printing: {"check": ["text"], "printed": ["text"], "start_of": ["text"]},
+    running: {"run": ["text"]},
+    looks: {
+        "added": ["one", "other"], "own_row": ["hall", "x"], "meet_oddly": ["one", "other"], "is_in_room": ["hall", "row"],
+        "room": ["hall"],
+    },
+    choosing: {
+        "left_over": ["hall", "choice"], "signs_over": ["hall", "choice"], "choices": ["hall"],
+        "base_row": ["hall", "choice", "x"], "hall_of": ["hall", "choice"], "third": ["hall", "choice", "x"],
+        "walk": ["hall", "choice", "other"],
+    },
+    naming: {
+        "changed": ["row", "change"], "answers": ["hall", "other"], "count_answers": ["hall", "other"],
+        "free_signs": ["hall", "other"], "equations": ["hall", "other"],
+    },
 }
 LIBRARY = {"heapq", "math", "itertools", "collections", "__future__"}
 

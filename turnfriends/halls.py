@@ -1,6 +1,6 @@
 """Halls: who is whose friend, turns, the ranks and parts that turns keep, and renaming."""
 
-from turnfriends.errors import BadHall, BadLot, BadOrder, BadRow, NoPerson, NotFriends
+from turnfriends.errors import BadHall, BadLot, BadOrder, BadRow, NoPerson, NotFriends, Unlike
 from turnfriends.tables import hall_of_masks, mask_of, masks_of, part_of, people_in, rank_across, turned_masks
 from turnfriends.values import MOST_PEOPLE, are_persons, ascends, is_person, is_whole, lesser_first
 
@@ -26,6 +26,14 @@ def need_hall(value):
     """Raises BadHall for a value that is no hall."""
     if not is_hall(value):
         raise BadHall("a hall is (n, pairs), n from 1 to 8, the pairs of friends ascending")
+
+
+def need_two(hall, other):
+    """Raises the errors of two values that are not halls of as many people."""
+    need_hall(hall)
+    need_hall(other)
+    if hall[0] != other[0]:
+        raise Unlike("two halls of as many people are asked for")
 
 
 def need_person(hall, value):

@@ -63,6 +63,24 @@ def rank_of_table(table):
     return len(basis)
 
 
+def inverse_of(table):
+    """For each place x the mask of the rows that sum up to x alone, [] where they don't for each.
+
+    The table has as many rows as places.
+    """
+    n = len(table)
+    # Behind its own places each row tells which rows were added up to it.
+    rows = [row | 1 << (n + k) for k, row in enumerate(table)]
+    for x in range(n):
+        fit = [k for k in range(x, n) if rows[k] >> x & 1]
+        if len(fit) == 0:
+            return []
+        lead = rows.pop(fit[0])
+        rows = [row ^ lead if row >> x & 1 else row for row in rows]
+        rows.insert(x, lead)
+    return [row >> n for row in rows]
+
+
 def rank_across(masks, lot):
     """The rank of the table that tells who in a lot, given as a mask, has which friends outside."""
     outside = ((1 << len(masks)) - 1) ^ lot

@@ -1,0 +1,51 @@
+"""No ordinary call runs for long: the slowest ones, timed on halls of eight people."""
+
+import time
+import unittest
+
+from tests.hands import pairs_of, some_halls
+from turnfriends import choosing, halls, looks, naming
+from turnfriends.running import run
+
+MOST_SECONDS = 20
+
+FOUR_PAIRS = (8, ((0, 1), (2, 3), (4, 5), (6, 7)))
+RING = (8, ((0, 1), (0, 7), (1, 2), (2, 3), (3, 4), (4, 5), (5, 6), (6, 7)))
+GUESTS = [(8, ()), (8, tuple(pairs_of(8))), FOUR_PAIRS, RING, *list(some_halls(8, 5))[2:]]
+
+
+class Times(unittest.TestCase):
+    def soon(self, function, *handed):
+        begun = time.monotonic()
+        function(*handed)
+        self.assertLess(time.monotonic() - begun, MOST_SECONDS, (function, handed))
+
+    def test_one_hall(self):
+        for hall in GUESTS:
+            for function in (halls.ranks, halls.parts, looks.room, choosing.choices):
+                self.soon(function, hall)
+
+    def test_choices_that_leave_over(self):
+        for hall in GUESTS:
+            for choice in ("XXXXXXXX", "YYYYYYYY", "XYZXYZXY"):
+                self.soon(choosing.left_over, hall, choice)
+
+    def test_walks(self):
+        for hall in GUESTS:
+            told = choosing.choices(hall)
+            self.soon(choosing.walk, hall, told[-1], told[0])
+
+    def test_two_halls(self):
+        for hall in GUESTS:
+            for other in (hall, halls.turned(hall, 0), RING):
+                for function in (naming.answers, naming.count_answers, naming.equations, naming.free_signs):
+                    self.soon(function, hall, other)
+
+    def test_programs(self):
+        often = "repeat 40 { repeat 45 { say 99 * 99 * 99 mod people } }"
+        e = "-" * 59
+        for text in (
+            f"people 8 friends 0-1 {often}", f"people 8 friends repeat 99 {{ repeat 19 {{ say {e}1 }} }}",
+            "people 1 friends let a = 99 * 99 * 99 repeat a { } repeat 99 { repeat 18 { repeat a { } } }",
+        ):
+            self.soon(run, text)
