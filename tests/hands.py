@@ -90,3 +90,17 @@ WRONG_CHANGES = [
     ("XYZ", "XYZ", ""), ("XYZ", "XYZ", None), ("XYZ", "XYZ", ("X", "Y", "Z")), (["X", "Y", "Z"], "XYZ", "XYZ"),
     ("XYZ", 0, "XYZ"), ("XYZ", True, "XYZ"), ("...", "XYZ", "XYZ"), ("ZZZ", "XYZ", "XYZ"), ("XYZ", "XYZ", {}),
 ]
+
+WRONG_NUMBERS = [*WRONG, "1", (1,), [1], {1: 1}, (), 4, 5, -4, 10 ** 18, -2]
+
+WRONG_LOOK_VALUES = [
+    *WRONG, 0, 1, ".", "x", "W", "XY", "XYZ", "XX", " X", "X ", "X\n", "..", ["X"], ("X",), {"X": 1}, ("Z", "Z"), "YZ", (),
+]
+
+# For a small hall of two people in one of three.
+WRONG_WHOS = [
+    *WRONG, 0, 2, "01", (), (0,), (0, 1, 2), [0, 1], {0: 0, 1: 1}, (0, 0), (1, 1),
+    (0, 3), (3, 0), (-1, 0), (0, -1), (0, "1"), ("0", 1), (0, 1, 1), (0, (1,)), (False, 1), (0, HUGE), (2,), (0, 1, True),
+]
+
+ANY_VALUES = [*WRONG_HALLS, ("none",), ("turns", ()), ("ranks", ()), ("ranks", (0,)), ("turns", (0,) * 201), ("turns",)]

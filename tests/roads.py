@@ -133,3 +133,61 @@ def signs(change):
         to_x, to_z = goes[0], goes[2]
         told += [int(to_x in "XY"), int(to_x in "ZY"), int(to_z in "XY"), int(to_z in "ZY")]
     return told
+
+
+@functools.lru_cache(maxsize=None)
+def class_of(hall):
+    """The ascending list of all halls that come by turns."""
+    found = [hall]
+    for told in found:
+        found += sorted({turned(told, x) for x in range(hall[0])} - set(found))
+    return sorted(found)
+
+
+def rows_to(hall):
+    """For each hall that comes by turns the first row that leads there, all rows gone through: shorter ones,
+    then lesser ones first."""
+    rows = [((), hall)]
+    first = {hall: ()}
+    while len(first) < len(class_of(hall)):
+        rows = [(row + (x,), turned(told, x)) for row, told in rows for x in range(hall[0])]
+        for row, told in rows:
+            first.setdefault(told, row)
+    return first
+
+
+def without(hall, x):
+    """The hall that x has left: those behind x are called one less."""
+    stay = [pair for pair in hall[1] if x not in pair]
+    return hall[0] - 1, tuple(tuple(y - (y > x) for y in pair) for pair in stay)
+
+
+def moved(named):
+    """What comes of people and their pairs, told by their own names, by one turn or one who leaves."""
+    people, pairs = named
+    for x in people:
+        yield tuple(y for y in people if y != x), frozenset(pair for pair in pairs if x not in pair)
+        known = [y for y in people if frozenset((x, y)) in pairs]
+        yield people, pairs ^ {frozenset(two) for two in itertools.combinations(known, 2)}
+
+
+@functools.lru_cache(maxsize=None)
+def come_of(hall):
+    """All that comes of a hall by turns and leaving, in any order, told by the people's own names."""
+    found = {(tuple(range(hall[0])), frozenset(map(frozenset, hall[1])))}
+    fresh = found
+    while fresh:
+        fresh = {told for named in fresh for told in moved(named)} - found
+        found = found | fresh
+    return found
+
+
+@functools.lru_cache(maxsize=None)
+def behind_leaving(hall, who):
+    """All halls that come by turns and the leaving of all but those of who, these called by their places in who."""
+    found = set()
+    for people, pairs in come_of(hall):
+        if people == tuple(sorted(who)):
+            told = sorted(tuple(sorted(who.index(x) for x in pair)) for pair in pairs)
+            found.add((len(who), tuple(told)))
+    return found

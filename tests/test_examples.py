@@ -31,6 +31,15 @@ class Examples(unittest.TestCase):
     def test_naming(self):
         self.hold("naming.txt", 3)
 
+    def test_leading(self):
+        self.hold("leading.txt", 3)
+
+    def test_classes(self):
+        self.hold("classes.txt", 4)
+
+    def test_leaving(self):
+        self.hold("leaving.txt", 4)
+
     def test_readme(self):
         text = README.read_text(encoding="utf-8").replace("```", "")
         test = doctest.DocTestParser().get_doctest(text, {}, "README.md", "README.md", 0)

@@ -6,7 +6,7 @@ import pathlib
 import unittest
 
 import turnfriends
-from turnfriends import choosing, halls, looks, naming, printing, running
+from turnfriends import choosing, classes, halls, leading, leaving, looks, naming, printing, running
 
 PACKAGE = pathlib.Path(turnfriends.__file__).parent
 FUNCTIONS = {
@@ -30,6 +30,15 @@ FUNCTIONS = {
         "changed": ["row", "change"], "answers": ["hall", "other"], "count_answers": ["hall", "other"],
         "free_signs": ["hall", "other"], "equations": ["hall", "other"],
     },
+    leading: {
+        "leads": ["hall", "other"], "turns_to": ["hall", "other"], "paper": ["hall", "other"],
+        "judged": ["hall", "other", "paper"],
+    },
+    classes: {
+        "members": ["hall"], "count_members": ["hall"], "number_of": ["hall"], "fewest_turns": ["hall", "other"],
+        "least_member": ["hall"], "member_at": ["hall", "number"], "least_row": ["hall", "other"], "farthest": ["hall"],
+    },
+    leaving: {"left": ["hall", "x", "look"], "all_left": ["hall", "x"], "lies_in": ["small", "hall", "who"]},
 }
 LIBRARY = {"heapq", "math", "itertools", "collections", "__future__"}
 

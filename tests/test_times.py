@@ -4,7 +4,7 @@ import time
 import unittest
 
 from tests.hands import pairs_of, some_halls
-from turnfriends import choosing, halls, looks, naming
+from turnfriends import choosing, classes, halls, leading, leaving, looks, naming
 from turnfriends.running import run
 
 MOST_SECONDS = 20
@@ -40,6 +40,30 @@ class Times(unittest.TestCase):
             for other in (hall, halls.turned(hall, 0), RING):
                 for function in (naming.answers, naming.count_answers, naming.equations, naming.free_signs):
                     self.soon(function, hall, other)
+
+    def test_leading(self):
+        for hall in GUESTS:
+            behind = halls.turned_all(hall, (0, 1, 2, 3, 4, 5, 6, 7))
+            self.soon(leading.turns_to, hall, behind)
+            self.soon(leading.judged, hall, behind, ("none",))
+            for other in (behind, RING, (8, ((0, 1),))):
+                self.soon(leading.leads, hall, other)
+                self.soon(leading.paper, hall, other)
+
+    def test_classes(self):
+        for hall in GUESTS:
+            behind = halls.turned_all(hall, (7, 5, 3, 1))
+            for function in (classes.members, classes.count_members, classes.least_member, classes.number_of, classes.farthest):
+                self.soon(function, hall)
+            for function in (classes.fewest_turns, classes.least_row):
+                self.soon(function, hall, behind)
+            self.soon(classes.member_at, hall, 0)
+
+    def test_leaving(self):
+        for hall in GUESTS:
+            self.soon(leaving.all_left, hall, 7)
+            for n in (1, 3, 5, 8):
+                self.soon(leaving.lies_in, (n, ()), hall, tuple(range(n)))
 
     def test_programs(self):
         often = "repeat 40 { repeat 45 { say 99 * 99 * 99 mod people } }"

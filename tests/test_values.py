@@ -5,9 +5,10 @@ import unittest
 
 from tests import hands
 from tests.hands import WRONG, WRONG_HALLS, nested
-from turnfriends import choosing, halls, looks, naming
+from turnfriends import choosing, classes, halls, leading, leaving, looks, naming
 from turnfriends.errors import (
-    BadChange, BadChoice, BadHall, BadLooks, BadLot, BadOrder, BadRow, HallError, LeavesOver, NoPerson, NotFriends, Unlike,
+    BadChange, BadChoice, BadHall, BadLook, BadLooks, BadLot, BadNumber, BadOrder, BadRow, BadWho, HallError, LeavesOver,
+    NoPerson, NotFriends, NoWay, Unlike,
 )
 from turnfriends.halls import is_hall
 from turnfriends.values import are_persons, is_person, is_whole
@@ -25,6 +26,13 @@ ORDER = ((2, 0, 1), BadOrder, hands.WRONG_ORDERS)
 ANY_LOOKS = ("XZ.", BadLooks, hands.WRONG_ANY_LOOKS)
 LOOKS = (".XX", BadLooks, hands.WRONG_LOOKS)
 CHOICE = ("XYZ", BadChoice, hands.WRONG_CHOICES)
+LED = ((3, ((0, 1), (0, 2))), BadHall, WRONG_HALLS)
+SMALL = ((2, ((0, 1),)), BadHall, WRONG_HALLS)
+NUMBER = (3, BadNumber, hands.WRONG_NUMBERS)
+LOOK = ("Y", BadLook, hands.WRONG_LOOK_VALUES)
+WHO = ((2, 0), BadWho, hands.WRONG_WHOS)
+# No value at all is wrong for it.
+PAPER = (("none",), None, [])
 CHANGE = (("YZX", "XYZ", "ZYX"), BadChange, hands.WRONG_CHANGES)
 
 PARAMETERS = {
@@ -38,6 +46,12 @@ PARAMETERS = {
     choosing.walk: [GUEST, CHOICE, CHOICE],
     naming.changed: [ANY_LOOKS, CHANGE], naming.answers: [GUEST, OTHER], naming.count_answers: [GUEST, OTHER],
     naming.equations: [GUEST, OTHER], naming.free_signs: [GUEST, OTHER],
+    leading.leads: [GUEST, OTHER], leading.turns_to: [GUEST, LED], leading.paper: [GUEST, OTHER],
+    leading.judged: [GUEST, OTHER, PAPER],
+    classes.members: [GUEST], classes.count_members: [GUEST], classes.least_member: [GUEST], classes.number_of: [GUEST],
+    classes.member_at: [GUEST, NUMBER], classes.fewest_turns: [GUEST, LED], classes.least_row: [GUEST, LED],
+    classes.farthest: [GUEST],
+    leaving.left: [GUEST, PERSON, LOOK], leaving.all_left: [GUEST, PERSON], leaving.lies_in: [SMALL, GUEST, WHO],
 }
 
 
@@ -74,7 +88,7 @@ class Values(Telling):
     def test_the_first_wrong_one_is_told(self):
         for function, kinds in PARAMETERS.items():
             for k, (_, error, wrongs) in enumerate(kinds):
-                for value in [wrongs[-1], *WRONG]:
+                for value in [wrongs[-1], *WRONG] if error else []:
                     self.fails(error, function, *right_values(kinds[:k]), *[value for _ in kinds[k:]])
 
     def test_wrong_ones_behind_wrong_ones(self):
@@ -180,6 +194,52 @@ class Orders(Telling):
                 self.fails(BadHall, function, (n, ()), (9, ()))
                 self.fails(BadHall, function, (0, ()), (n, ()))
                 self.fails(BadHall, function, (n, ()), (n, ((1, 0),)))
+        for function in (leading.leads, leading.turns_to, leading.paper, classes.fewest_turns, classes.least_row):
+            self.fails(Unlike, function, (2, ()), (3, ()))
+            self.fails(Unlike, function, (8, ((0, 1),)), (1, ()))
+            self.fails(BadHall, function, (2, ()), (9, ()))
+        for paper in hands.ANY_VALUES:
+            self.fails(Unlike, leading.judged, (2, ()), (3, ()), paper)
+            self.fails(BadHall, leading.judged, (2, ()), (9, ()), paper)
+            self.fails(BadHall, leading.judged, (0, ()), (3, ()), paper)
+
+    def test_no_way_behind_both_halls(self):
+        for function in (leading.turns_to, classes.fewest_turns, classes.least_row):
+            self.fails(NoWay, function, HALL, (3, ()))
+            self.fails(NoWay, function, (2, ()), (2, ((0, 1),)))
+            self.fails(Unlike, function, HALL, (4, ()))
+
+    def test_judged_takes_any_paper(self):
+        for value in hands.ANY_VALUES:
+            before = copy.deepcopy(value)
+            self.assertIs(type(leading.judged(HALL, (3, ()), value)), bool)
+            self.assertEqual(value, before)
+
+    def test_halls_of_one_person_are_not_left(self):
+        for x in (0, 1, -1, None, True, "0"):
+            for look in ("X", "Y", "Z", "", None):
+                self.fails(BadHall, leaving.left, (1, ()), x, look)
+            self.fails(BadHall, leaving.all_left, (1, ()), x)
+        self.fails(NoPerson, leaving.left, (2, ()), 2, "X")
+        self.fails(NoPerson, leaving.left, (2, ()), 2, "")
+        self.fails(BadLook, leaving.left, (2, ()), 1, "")
+        self.fails(NoPerson, leaving.all_left, (2, ()), True)
+
+    def test_who(self):
+        """One person of the hall for each of the small one: none such for a small hall of more people."""
+        for who in ((), (0,), (0, 1), (0, 1, 2), (0, 1, 2, 3), None, (0, 1, 1)):
+            self.fails(BadWho, leaving.lies_in, (4, ()), HALL, who)
+            self.fails(BadWho, leaving.lies_in, (8, ()), (1, ()), who)
+        for m in range(1, 9):
+            for many in range(10):
+                if many != m:
+                    self.fails(BadWho, leaving.lies_in, (m, ()), (8, ()), tuple(range(many)))
+            self.fails(BadWho, leaving.lies_in, (m, ()), (8, ()), (8,) + tuple(range(1, m)))
+            self.fails(BadWho, leaving.lies_in, (m, ()), (8, ()), tuple(range(m - 1)) + (True,))
+            if m > 1:
+                self.fails(BadWho, leaving.lies_in, (m, ()), (8, ()), (m - 2,) + tuple(range(m - 1)))
+        self.fails(BadHall, leaving.lies_in, (9, ()), (9, ()), ())
+        self.fails(BadHall, leaving.lies_in, (3, ()), (9, ()), ())
 
 
 class Kinds(unittest.TestCase):
@@ -204,11 +264,19 @@ class Kinds(unittest.TestCase):
             choosing.hall_of(HALL, "XYZ")[1], choosing.walk(HALL, "ZZZ", "XYZ"), naming.answers(HALL, HALL),
             naming.answers(HALL, HALL)[0], naming.equations(HALL, HALL), naming.equations(HALL, HALL)[0],
         )
+        self.tuples(
+            leading.turns_to(HALL, HALL), leading.paper(HALL, HALL), leading.paper(HALL, (3, ())), classes.members(HALL),
+            leading.paper(HALL, (3, ()))[1], classes.members(HALL)[0], classes.members(HALL)[0][1],
+            classes.least_member(HALL), classes.member_at(HALL, 0), classes.least_row(HALL, HALL), classes.farthest(HALL),
+            classes.farthest(HALL)[1], classes.farthest(HALL)[1][0], leaving.left(HALL, 0, "X"),
+            leaving.left(HALL, 0, "X")[1], leaving.all_left(HALL, 0), leaving.all_left(HALL, 0)[0],
+        )
 
     def test_numbers_and_texts(self):
         for number in (
             halls.rank_of(HALL, (0,)), choosing.signs_over(HALL, "XZX"), naming.count_answers(HALL, HALL),
-            naming.free_signs(HALL, HALL), naming.equations(HALL, HALL)[0][0],
+            naming.free_signs(HALL, HALL), naming.equations(HALL, HALL)[0][0], classes.count_members(HALL),
+            classes.number_of(HALL), classes.fewest_turns(HALL, HALL), classes.farthest(HALL)[0],
         ):
             self.assertIs(type(number), int)
         for text in (

@@ -42,15 +42,25 @@ def need_person(hall, value):
         raise NoPerson("a person is an integer from 0 to n - 1")
 
 
+def is_row(hall, value):
+    """Whether a value is a row of persons of a hall."""
+    return are_persons(value, hall[0]) and len(value) <= MOST_TURNS
+
+
 def need_row(hall, value):
     """Raises BadRow for a value that is no row of persons of a hall."""
-    if not are_persons(value, hall[0]) or len(value) > MOST_TURNS:
+    if not is_row(hall, value):
         raise BadRow("a row is a tuple of at most 200 persons")
+
+
+def is_lot(hall, value):
+    """Whether a value is a lot of persons of a hall."""
+    return are_persons(value, hall[0]) and ascends(value)
 
 
 def need_lot(hall, value):
     """Raises BadLot for a value that is no lot of persons of a hall."""
-    if not are_persons(value, hall[0]) or not ascends(value):
+    if not is_lot(hall, value):
         raise BadLot("a lot is an ascending tuple of unlike persons")
 
 

@@ -38,6 +38,43 @@ def turned_masks(masks, x):
     return [mask ^ masks[x] ^ (1 << y) if masks[x] >> y & 1 else mask for y, mask in enumerate(masks)]
 
 
+def fewest_from(masks):
+    """For the friend masks, as tuples, of all halls that come by turns, how many turns lead there at least."""
+    now = [tuple(masks)]
+    fewest = {now[0]: 0}
+    while len(now) > 0:
+        # All halls of one number of turns are known before those of one turn more.
+        behind = []
+        for told in now:
+            for x in range(len(told)):
+                other = tuple(turned_masks(told, x))
+                if other not in fewest:
+                    fewest[other] = fewest[told] + 1
+                    behind.append(other)
+        now = behind
+    return fewest
+
+
+def masks_without(masks, x):
+    """The friend masks of a hall that a person has left; those behind are called one less."""
+    ahead = (1 << x) - 1
+    return [mask & ahead | mask >> 1 & ~ahead for y, mask in enumerate(masks) if y != x]
+
+
+def masks_left(masks, x, look):
+    """The friend masks behind a person's leaving by a look."""
+    known = people_in(masks[x])
+    row = []
+    if look == "Y":
+        row = [x]
+    elif look == "X" and len(known) > 0:
+        row = [x, known[0], x]
+    behind = masks
+    for y in row:
+        behind = turned_masks(behind, y)
+    return masks_without(behind, x)
+
+
 def part_of(masks, x):
     """The mask of those who hang together with x."""
     reached = 1 << x
