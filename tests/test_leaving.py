@@ -115,6 +115,11 @@ class LiesIn(unittest.TestCase):
                     for small in all_halls(m):
                         self.assertIs(lies_in(small, hall, who), small in roads.behind_leaving(hall, who))
 
+    def test_four_people_in_their_order(self):
+        for hall in all_halls(4):
+            for small in all_halls(4):
+                self.assertIs(lies_in(small, hall, (0, 1, 2, 3)), small in roads.class_of(hall))
+
     def test_four_people_who_all_stay(self):
         for hall in some_halls(4, 8):
             for who in itertools.permutations(range(4)):
