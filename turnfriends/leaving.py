@@ -8,14 +8,6 @@ from turnfriends.tables import fewest_from, hall_of_masks, masks_left, masks_of
 from turnfriends.values import are_persons
 
 
-def need_leaver(hall, x):
-    """Raises the errors of two values that are not a hall of two or more people and one of these."""
-    need_hall(hall)
-    if hall[0] < 2:
-        raise BadHall("somebody leaves a hall of two or more people")
-    need_person(hall, x)
-
-
 def need_look(value):
     """Raises BadLook for a value that is no look."""
     if not isinstance(value, str) or len(value) != 1 or value not in LOOKS:
@@ -24,14 +16,16 @@ def need_look(value):
 
 def left(hall, x, look):
     """The hall behind a person's leaving: as it is, behind a turn, or behind a swap with the least friend."""
-    need_leaver(hall, x)
+    need_hall(hall)
+    if hall[0] < 2:
+        raise BadHall("somebody leaves a hall of two or more people")
+    need_person(hall, x)
     need_look(look)
     return hall_of_masks(masks_left(masks_of(hall), x, look))
 
 
 def all_left(hall, x):
     """The ascending tuple of the least members of the classes of the halls behind a person's leaving."""
-    need_leaver(hall, x)
     return tuple(sorted({least_member(left(hall, x, look)) for look in LOOKS}))
 
 
