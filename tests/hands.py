@@ -104,3 +104,43 @@ WRONG_WHOS = [
 ]
 
 ANY_VALUES = [*WRONG_HALLS, ("none",), ("turns", ()), ("ranks", ()), ("ranks", (0,)), ("turns", (0,) * 201), ("turns",)]
+
+WRONG_DANCES = [
+    *WRONG, 0, 3, "0011", "00", (), (0,), (0, 0, 0), (0, 1), (1, 1), (0, 0, 1), (0, 0, 0, 0), (0, 0, 1, 1, 1), (0, 0, 0, 1),
+    (0, 0, 2, 2), (0, 0, 1, 2), (0, 0, 1, -1), (-1, -1), (0, 1, 0, 2), [0, 0], [0, 0, 1, 1], {0: 0, 1: 1}, ((0, 0),),
+    ((0, 1), (0, 1)), (0, "0"), ("0", "0"), (0, False), (False, 0), (0, True, 0, True), (0, 0, 1, True), (0, None),
+    (0, 0, HUGE, HUGE), (0, 0, 1, [1]), (0, 0, (1,), 1), (0, 0, {}, {}), (0, 0, nested(tuple, 28), 1), (0, 0, 1, 1, 1, 1),
+    tuple(range(9)) * 2, (0, 0, *range(1, 9), *range(1, 9)), tuple(range(8)) * 2 + (0,), tuple(range(8)), (1, 1, 2, 2),
+    (0, 0, 1, 1, 3, 3), tuple(range(100)) * 2, (0, 0, 1, 1, 2, 2, 2, 2), (0, 1, 1, 1), (0,) * 16,
+]
+
+START = ("alone", 0)
+WRONG_STEPS = [
+    *WRONG, 0, "alone", (), [START], {START: 1}, START, (START, None), (START, []), (START, {}), (START, ()), (START, "alone"),
+    (["alone", 0],), (START, ["alone", 1]), (START, ["leaf", 1, 0]), (("alone",),), (("alone", 0, 0),), ((0, "alone"),),
+    # The first one is alone.
+    (("leaf", 0, 0),), (("leaf", 0, 1), ("alone", 1)), (("twin", 0, 0, "friend"),), (("twin", 0, 1, "friend"), ("alone", 1)),
+    # Told twice, not there, the same one, a gap.
+    (START, START), (START, ("leaf", 0, 0)), (START, ("alone", 1), ("leaf", 0, 1)), (START, ("leaf", 1, 2), ("alone", 2)),
+    (START, ("leaf", 1, 1)), (START, ("twin", 1, 1, "friend")), (START, ("twin", 1, 2, "stranger"), ("alone", 2)),
+    (START, ("alone", 2)), (("alone", 1),), (("alone", 1), ("alone", 2)), (START, ("leaf", 2, 0)), (START, ("alone", -1)),
+    (START, ("alone", HUGE)), (START, ("leaf", 1, HUGE)), (START, ("leaf", 1, -1)), (START, ("alone", True)),
+    (("alone", False),), (START, ("leaf", 1, False)), (START, ("leaf", True, 0)), (START, ("twin", 1, False, "friend")),
+    (START, ("alone", None)), (START, ("alone", "1")), (START, ("alone", (1,))), (START, ("leaf", 1, None)),
+    (START, ("leaf", 1, (0,))), (START, ("leaf", 1, [0])), (START, ("alone", [1])),
+    # Words, and steps too long and too short.
+    (START, ("twin", 1, 0, "friends")), (START, ("twin", 1, 0, "")), (START, ("twin", 1, 0, "Friend")),
+    (START, ("twin", 1, 0, None)), (START, ("twin", 1, 0, True)), (START, ("twin", 1, 0, ["friend"])),
+    (START, ("twin", 1, 0, ("friend",))), (START, ("twin", 1, 0, {})), (START, ("twin", 1, 0, 0)),
+    (START, ("twin", 1, 0)), (START, ("twin", 1)), (START, ("twin", 1, 0, "friend", "friend")), (START, ("leaf", 1)),
+    (START, ("leaf", 1, 0, "friend")), (START, ("leaf", 1, 0, 0)), (START, ("alone", 1, 0)), (START, ("alone", 1, None)),
+    (START, ("Alone", 1)), (START, ("", 1)), (START, (None, 1)), (START, (True, 1)), (START, ([], 1)), (START, ({}, 1, 0)),
+    (START, ("Leaf", 1, 0)), (START, ("leaves", 1, 0)), (START, ("twins", 1, 0, "friend")), (START, (("alone",), 1)),
+    (START, ("friend", 1, 0, "twin")), (START, (nested(tuple, 28), 1)), (START, ("alone", nested(tuple, 28))),
+    (START, ("twin", 1, 0, nested(tuple, 28))), (START, ("leaf", 1, nested(list, 28))),
+    # Nine persons.
+    tuple(("alone", x) for x in range(9)), (START, *[("leaf", x, 0) for x in range(1, 9)]),
+    tuple(("alone", x) for x in range(100)), tuple(("alone", 0) for _ in range(9)),
+]
+
+WRONG_PEOPLE = [0, 6, 7, 8, -2, "1", "5", (1,), (3,), [1], {1: 1}, (), (3, ()), (3, ((0, 1),)), 10 ** 18]

@@ -40,6 +40,30 @@ class Examples(unittest.TestCase):
     def test_leaving(self):
         self.hold("leaving.txt", 4)
 
+    def test_trees(self):
+        self.hold("trees.txt", 2)
+
+    def test_dances(self):
+        self.hold("dances.txt", 3)
+
+    def test_sums(self):
+        self.hold("sums.txt", 2)
+
+    def test_desks(self):
+        self.hold("desks.txt", 6)
+
+    def test_growing(self):
+        self.hold("growing.txt", 4)
+
+    def test_widths(self):
+        self.hold("widths.txt", 3)
+
+    def test_listing(self):
+        self.hold("listing.txt", 2)
+
+    def test_asking(self):
+        self.hold("asking.txt", 4)
+
     def test_readme(self):
         text = README.read_text(encoding="utf-8").replace("```", "")
         test = doctest.DocTestParser().get_doctest(text, {}, "README.md", "README.md", 0)

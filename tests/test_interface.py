@@ -6,7 +6,8 @@ import pathlib
 import unittest
 
 import turnfriends
-from turnfriends import choosing, classes, halls, leading, leaving, looks, naming, printing, running
+from turnfriends import asking, choosing, classes, dances, desks, growing, halls, leading, leaving, listing, looks
+from turnfriends import naming, printing, running, sums, trees, widths
 
 PACKAGE = pathlib.Path(turnfriends.__file__).parent
 FUNCTIONS = {
@@ -39,6 +40,24 @@ FUNCTIONS = {
         "least_member": ["hall"], "member_at": ["hall", "number"], "least_row": ["hall", "other"], "farthest": ["hall"],
     },
     leaving: {"left": ["hall", "x", "look"], "all_left": ["hall", "x"], "lies_in": ["small", "hall", "who"]},
+    trees: {"is_tree": ["hall"], "tree_name": ["hall"]},
+    dances: {
+        "hall_of_dance": ["dance"], "turned_dance": ["dance", "x"], "least_dance": ["dance"], "dances": ["hall"],
+        "tours": ["dance"], "is_danced": ["hall"], "yard": ["dance"], "count_tours": ["dance"],
+    },
+    sums: {"sum_of_lots": ["hall"], "sum_of_choices": ["hall"]},
+    desks: {"Desk": ["hall"], "desk_of": ["text"]},
+    growing: {"splits": ["hall"], "is_grown": ["hall"], "growth": ["hall"], "grown": ["steps"]},
+    widths: {"width_of": ["hall", "order"], "width": ["hall"], "narrow_order": ["hall"]},
+    listing: {"least_named": ["hall"], "classes_of": ["n"]},
+    asking: {
+        "sign_of": ["hall", "row"], "outcomes": ["hall", "choice"], "table": ["hall"], "is_table": ["hall", "value"],
+        "bars": ["hall"],
+    },
+}
+METHODS = {
+    "turn": ["x"], "swap": ["x", "y"], "leave": ["x", "look"], "undo": [], "hall": [], "row": [], "ranks": [], "is_tree": [],
+    "count": [], "aim": ["other"], "text": [],
 }
 LIBRARY = {"heapq", "math", "itertools", "collections", "__future__"}
 
@@ -54,6 +73,10 @@ class Interface(unittest.TestCase):
                 function = getattr(module, name)
                 self.assertEqual(function.__module__, module.__name__)
                 self.assertEqual(list(inspect.signature(function).parameters), parameters)
+
+    def test_methods_of_the_desk(self):
+        for name, parameters in METHODS.items():
+            self.assertEqual(list(inspect.signature(vars(desks.Desk)[name]).parameters), ["self", *parameters])
 
 
 class Language(unittest.TestCase):

@@ -3,8 +3,11 @@
 import time
 import unittest
 
+from tests import dancing
 from tests.hands import pairs_of, some_halls
-from turnfriends import choosing, classes, halls, leading, leaving, looks, naming
+from turnfriends import asking, choosing, classes, dances, growing, halls, leading, leaving, listing, looks, naming
+from turnfriends import sums, trees, widths
+from turnfriends.desks import Desk, desk_of
 from turnfriends.running import run
 
 MOST_SECONDS = 20
@@ -73,3 +76,41 @@ class Times(unittest.TestCase):
             "people 1 friends let a = 99 * 99 * 99 repeat a { } repeat 99 { repeat 18 { repeat a { } } }",
         ):
             self.soon(run, text)
+
+    def test_sums_growth_and_widths(self):
+        for hall in GUESTS:
+            for function in (
+                sums.sum_of_lots, sums.sum_of_choices, growing.splits, growing.is_grown, widths.width, widths.narrow_order,
+                trees.is_tree, asking.table, asking.bars,
+            ):
+                self.soon(function, hall)
+            self.soon(widths.width_of, hall, tuple(range(8)))
+            self.soon(asking.is_table, hall, "0" * 24)
+            for choice in ("XXXXXXXX", "ZZZZZZZZ", "XYZXYZXY"):
+                self.soon(asking.outcomes, hall, choice)
+        self.soon(trees.tree_name, (8, tuple((0, x) for x in range(1, 8))))
+        self.soon(growing.growth, (8, tuple(pairs_of(8))))
+
+    def test_halls_of_six(self):
+        for hall in [(6, ((0, 1),)), (6, ((0, 1), (2, 3), (4, 5))), *some_halls(6, 12)]:
+            for function in (dances.dances, dances.is_danced, listing.least_named):
+                self.soon(function, hall)
+        self.soon(listing.classes_of, 5)
+
+    def test_dances(self):
+        for dance in dancing.some_dances(6, 5):
+            self.soon(dances.tours, dance)
+            self.soon(dances.count_tours, dance)
+        for dance in dancing.some_dances(8, 5):
+            for function in (dances.hall_of_dance, dances.least_dance, dances.yard):
+                self.soon(function, dance)
+
+    def test_desks(self):
+        for hall in GUESTS:
+            desk = Desk(hall)
+            for _ in range(1000):
+                desk.turn(5)
+            for call in (desk.ranks, desk.count, desk.row, desk.undo):
+                self.soon(call)
+            self.soon(desk.aim, RING)
+            self.soon(desk_of, desk.text())

@@ -5,10 +5,11 @@ import unittest
 
 from tests import hands
 from tests.hands import WRONG, WRONG_HALLS, nested
-from turnfriends import choosing, classes, halls, leading, leaving, looks, naming
+from turnfriends import asking, choosing, classes, dances, growing, halls, leading, leaving, listing, looks, naming
+from turnfriends import sums, trees, widths
 from turnfriends.errors import (
-    BadChange, BadChoice, BadHall, BadLook, BadLooks, BadLot, BadNumber, BadOrder, BadRow, BadWho, HallError, LeavesOver,
-    NoPerson, NotFriends, NoWay, Unlike,
+    BadChange, BadChoice, BadDance, BadHall, BadLook, BadLooks, BadLot, BadNumber, BadOrder, BadPeople, BadRow, BadSteps,
+    BadWho, HallError, LeavesOver, NoPerson, NotFriends, NotGrown, NotInRoom, NoTree, NoWay, Unlike,
 )
 from turnfriends.halls import is_hall
 from turnfriends.values import are_persons, is_person, is_whole
@@ -34,7 +35,16 @@ WHO = ((2, 0), BadWho, hands.WRONG_WHOS)
 # No value at all is wrong for it.
 PAPER = (("none",), None, [])
 CHANGE = (("YZX", "XYZ", "ZYX"), BadChange, hands.WRONG_CHANGES)
+TREE = (HALL, BadHall, WRONG_HALLS)
+FEW = (HALL, BadHall, [*WRONG_HALLS, (7, ()), (8, ()), (7, ((0, 1), (5, 6)))])
+DANCE = ((0, 1, 0, 2, 1, 2), BadDance, hands.WRONG_DANCES)
+FEW_DANCERS = ((0, 1, 0, 2, 1, 2), BadDance, [*hands.WRONG_DANCES, tuple(range(7)) * 2, tuple(range(8)) * 2])
+STEPS = ((("alone", 1), ("leaf", 0, 1), ("twin", 2, 1, "friend")), BadSteps, hands.WRONG_STEPS)
+PEOPLE = (3, BadPeople, [*WRONG, *hands.WRONG_PEOPLE])
+IN_ROOM = (".ZX", BadLooks, hands.WRONG_LOOKS)
+ANY_VALUE = ("000", None, [])
 
+# Functions of texts, and the methods of the desk, are tested beside what they do.
 PARAMETERS = {
     halls.friends: [GUEST, PERSON], halls.turned: [GUEST, PERSON], halls.turned_all: [GUEST, ROW],
     halls.swapped: [GUEST, PERSON, SECOND], halls.rank_of: [GUEST, LOT], halls.ranks: [GUEST], halls.parts: [GUEST],
@@ -52,6 +62,15 @@ PARAMETERS = {
     classes.member_at: [GUEST, NUMBER], classes.fewest_turns: [GUEST, LED], classes.least_row: [GUEST, LED],
     classes.farthest: [GUEST],
     leaving.left: [GUEST, PERSON, LOOK], leaving.all_left: [GUEST, PERSON], leaving.lies_in: [SMALL, GUEST, WHO],
+    trees.is_tree: [GUEST], trees.tree_name: [TREE],
+    dances.hall_of_dance: [DANCE], dances.turned_dance: [DANCE, PERSON], dances.least_dance: [DANCE], dances.yard: [DANCE],
+    dances.dances: [FEW], dances.is_danced: [FEW], dances.tours: [FEW_DANCERS], dances.count_tours: [FEW_DANCERS],
+    sums.sum_of_lots: [GUEST], sums.sum_of_choices: [GUEST],
+    growing.splits: [GUEST], growing.is_grown: [GUEST], growing.growth: [GUEST], growing.grown: [STEPS],
+    widths.width_of: [GUEST, ORDER], widths.width: [GUEST], widths.narrow_order: [GUEST],
+    listing.least_named: [FEW], listing.classes_of: [PEOPLE],
+    asking.sign_of: [GUEST, IN_ROOM], asking.outcomes: [GUEST, CHOICE], asking.table: [GUEST], asking.bars: [GUEST],
+    asking.is_table: [GUEST, ANY_VALUE],
 }
 
 
@@ -241,6 +260,43 @@ class Orders(Telling):
         self.fails(BadHall, leaving.lies_in, (9, ()), (9, ()), ())
         self.fails(BadHall, leaving.lies_in, (3, ()), (9, ()), ())
 
+    def test_no_trees_and_halls_that_do_not_grow(self):
+        ring = (5, ((0, 1), (0, 4), (1, 2), (2, 3), (3, 4)))
+        self.fails(NoTree, trees.tree_name, ring)
+        self.fails(NotGrown, growing.growth, ring)
+        self.fails(BadHall, trees.tree_name, (5, ((0, 4), (0, 1), (1, 2), (2, 3), (3, 4))))
+        self.fails(BadHall, growing.growth, (5, ((0, 4), (0, 1), (1, 2), (2, 3), (3, 4))))
+        self.fails(NoTree, trees.tree_name, (2, ()))
+
+    def test_rows_that_are_not_in_the_room(self):
+        for row in ("X..", "ZZZ", "..Z"):
+            self.fails(NotInRoom, asking.sign_of, HALL, row)
+            self.fails(BadHall, asking.sign_of, (3, ((1, 0),)), row)
+            self.fails(BadLooks, asking.sign_of, HALL, row + ".")
+
+    def test_dances_ahead_of_persons(self):
+        for x in (2, -1, None, True, False, (0,)):
+            self.fails(NoPerson, dances.turned_dance, (0, 1, 0, 1), x)
+            self.fails(BadDance, dances.turned_dance, (0, 1, 0, 2), x)
+            self.fails(BadDance, dances.turned_dance, (), x)
+
+    def test_seven_and_eight_people(self):
+        for n in (7, 8):
+            for function in (dances.dances, dances.is_danced, listing.least_named):
+                self.fails(BadHall, function, (n, ()))
+            for function in (dances.tours, dances.count_tours):
+                self.fails(BadDance, function, tuple(range(n)) * 2)
+            for function in (dances.hall_of_dance, dances.least_dance, dances.yard):
+                self.assertIs(type(function(tuple(range(n)) * 2)), tuple)
+        self.fails(BadPeople, listing.classes_of, 6)
+
+    def test_is_table_takes_any_value(self):
+        for value in hands.ANY_VALUES:
+            before = copy.deepcopy(value)
+            self.assertIs(asking.is_table(HALL, value), False)
+            self.assertEqual(value, before)
+            self.fails(BadHall, asking.is_table, (9, ()), value)
+
 
 class Kinds(unittest.TestCase):
     def test_helpers_of_any_value(self):
@@ -272,16 +328,39 @@ class Kinds(unittest.TestCase):
             leaving.left(HALL, 0, "X")[1], leaving.all_left(HALL, 0), leaving.all_left(HALL, 0)[0],
         )
 
+    def test_further_tuples(self):
+        round_dance = (0, 1, 0, 2, 1, 2)
+        self.tuples(
+            dances.hall_of_dance(round_dance), dances.hall_of_dance(round_dance)[1], dances.turned_dance(round_dance, 0),
+            dances.least_dance(round_dance), dances.dances(HALL), dances.dances(HALL)[0], dances.tours(round_dance),
+            dances.tours(round_dance)[0], dances.yard(round_dance), dances.yard(round_dance)[0], sums.sum_of_lots(HALL),
+            sums.sum_of_choices(HALL), growing.splits((4, ())), growing.splits((4, ()))[0], growing.growth(HALL),
+            growing.growth(HALL)[0], growing.grown((("alone", 0), ("leaf", 1, 0)))[1][0], widths.narrow_order(HALL),
+            listing.least_named(HALL), listing.least_named(HALL)[1][0], listing.classes_of(3), listing.classes_of(3)[1][1],
+            asking.outcomes(HALL, "XYZ"), asking.bars(HALL),
+        )
+
+    def test_truths(self):
+        for told in (
+            trees.is_tree(HALL), trees.is_tree((3, ())), dances.is_danced(HALL), growing.is_grown(HALL),
+            asking.is_table(HALL, "000000000"), asking.is_table((1, ()), "000"), asking.is_table(HALL, None),
+            looks.is_in_room(HALL, "XXX"), leading.leads(HALL, HALL), leaving.lies_in((1, ()), HALL, (0,)),
+        ):
+            self.assertIs(type(told), bool)
+
     def test_numbers_and_texts(self):
         for number in (
             halls.rank_of(HALL, (0,)), choosing.signs_over(HALL, "XZX"), naming.count_answers(HALL, HALL),
             naming.free_signs(HALL, HALL), naming.equations(HALL, HALL)[0][0], classes.count_members(HALL),
             classes.number_of(HALL), classes.fewest_turns(HALL, HALL), classes.farthest(HALL)[0],
+            dances.count_tours((0, 0)), sums.sum_of_lots(HALL)[0], widths.width(HALL), widths.width_of(HALL, (2, 1, 0)),
+            asking.sign_of(HALL, "X.X"),
         ):
             self.assertIs(type(number), int)
         for text in (
             looks.added("X", "Y"), looks.own_row(HALL, 0), looks.room(HALL)[0], choosing.left_over(HALL, "XZX")[0],
             choosing.base_row(HALL, "XYZ", 0), choosing.third(HALL, "XYZ", 0), naming.changed("X", ("YZX",)),
-            naming.answers(HALL, HALL)[0][0],
+            naming.answers(HALL, HALL)[0][0], trees.tree_name(HALL), asking.outcomes(HALL, "XYZ")[0], asking.table((1, ())),
+            asking.bars(HALL)[0],
         ):
             self.assertIs(type(text), str)

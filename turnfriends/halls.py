@@ -2,7 +2,7 @@
 
 from turnfriends.errors import BadHall, BadLot, BadOrder, BadRow, NoPerson, NotFriends, Unlike
 from turnfriends.tables import hall_of_masks, mask_of, masks_of, part_of, people_in, rank_across, turned_masks
-from turnfriends.values import MOST_PEOPLE, are_persons, ascends, is_person, is_whole, lesser_first
+from turnfriends.values import MOST_FEW, MOST_PEOPLE, are_persons, ascends, is_person, is_whole, lesser_first
 
 MOST_TURNS = 200
 
@@ -26,6 +26,13 @@ def need_hall(value):
     """Raises BadHall for a value that is no hall."""
     if not is_hall(value):
         raise BadHall("a hall is (n, pairs), n from 1 to 8, the pairs of friends ascending")
+
+
+def need_few(value):
+    """Raises BadHall for a value that is no hall of at most 6 people."""
+    need_hall(value)
+    if value[0] > MOST_FEW:
+        raise BadHall("a hall of at most 6 people is asked for")
 
 
 def need_two(hall, other):

@@ -1,6 +1,8 @@
 """What values are: integers, persons, and tuples of them."""
 
 MOST_PEOPLE = 8
+# The bound of what goes through too many halls, dances or ways with more people.
+MOST_FEW = 6
 
 
 def is_whole(value):
