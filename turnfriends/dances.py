@@ -75,7 +75,7 @@ def _dances_from_first(hall):
     masks = masks_of(hall)
     found = [(0, 0)]
     for x in range(1, len(masks)):
-        # Those behind x are no friends of x in a dance in which they don't stand.
+        # Those behind x don't stand in the dance yet.
         known = masks[x] & ((1 << x) - 1)
         found = [longer for dance in found for longer in _brought_in(dance, x, known)]
     return found

@@ -14,13 +14,11 @@ def width_of(hall, order):
 
 def width(hall):
     """The least width of all orders."""
-    need_hall(hall)
     return _widths_from(hall)[0]
 
 
 def narrow_order(hall):
     """The least order of the least width of all."""
-    need_hall(hall)
     widths = _widths_from(hall)
     order = []
     lot = 0
