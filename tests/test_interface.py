@@ -2,14 +2,12 @@
 
 import ast
 import inspect
-import pathlib
 import unittest
 
-import turnfriends
+from tests.sources import PACKAGE, files
 from turnfriends import asking, choosing, classes, dances, desks, growing, halls, leading, leaving, listing, looks
 from turnfriends import naming, printing, running, sums, trees, widths
 
-PACKAGE = pathlib.Path(turnfriends.__file__).parent
 FUNCTIONS = {
     halls: {
         "is_hall": ["value"], "friends": ["hall", "x"], "turned": ["hall", "x"], "turned_all": ["hall", "row"],
@@ -60,10 +58,6 @@ METHODS = {
     "count": [], "aim": ["other"], "text": [],
 }
 LIBRARY = {"heapq", "math", "itertools", "collections", "__future__"}
-
-
-def files():
-    return sorted(path for path in PACKAGE.rglob("*.py"))
 
 
 class Interface(unittest.TestCase):

@@ -23,13 +23,13 @@ def narrow_order(hall):
     order = []
     lot = 0
     for _ in range(hall[0]):
-        fit = [x for x in _outside(hall[0], lot) if widths[lot | 1 << x] <= widths[0]]
+        fit = [x for x in _people_outside(hall[0], lot) if widths[lot | 1 << x] <= widths[0]]
         order.append(fit[0])
         lot |= 1 << fit[0]
     return tuple(order)
 
 
-def _outside(n, lot):
+def _people_outside(n, lot):
     """The persons outside of a lot, given as a mask, ascending."""
     return [x for x in range(n) if not lot >> x & 1]
 
@@ -39,6 +39,6 @@ def _widths_from(hall):
     widths = list(ranks(hall))
     # A lot with one person more has a greater number: what is known of it is known before.
     for lot in reversed(range(len(widths) - 1)):
-        least = min([widths[lot | 1 << x] for x in _outside(hall[0], lot)])
+        least = min([widths[lot | 1 << x] for x in _people_outside(hall[0], lot)])
         widths[lot] = max(widths[lot], least)
     return widths
